@@ -1,0 +1,111 @@
+"""The form of the package (as far as a test can see it), its interface, and the examples of README.md."""
+
+import ast
+import builtins
+import doctest
+import inspect
+import os
+import unittest
+
+from treeserved import trees
+
+TOP = os.path.dirname(os.path.dirname(os.path.abspath(__file__)))
+PACKAGE = os.path.join(TOP, "treeserved")
+BUILTINS = {word for word in dir(builtins) if not word.startswith("__")}
+LIBRARY = {"heapq", "math", "itertools", "collections", "__future__"}
+FUNCTIONS = {
+    trees: {
+        "tree": ["nodes", "edges"],
+        "names_of": ["some_tree"],
+        "weight_of": ["some_tree", "name"],
+        "neighbors": ["some_tree", "name"],
+        "path": ["some_tree", "first", "second"],
+        "distance": ["some_tree", "first", "second"],
+        "meeting": ["some_tree", "first", "second", "third"],
+        "sides": ["some_tree", "first", "second"],
+        "is_group": ["some_tree", "names"],
+    },
+}
+
+
+def files():
+    """The names and texts of the files of the package."""
+    found = {}
+    for name in sorted(os.listdir(PACKAGE)):
+        if name != "__pycache__":
+            with open(os.path.join(PACKAGE, name), encoding="utf-8", newline="") as held:
+                found[name] = held.read()
+    return found
+
+
+def bound(node):
+    """The names that a part of a program gives to something."""
+    if isinstance(node, (ast.FunctionDef, ast.ClassDef)):
+        return [node.name]
+    if isinstance(node, ast.arg):
+        return [node.arg]
+    if isinstance(node, ast.Name) and isinstance(node.ctx, ast.Store):
+        return [node.id]
+    return []
+
+
+class TestForm(unittest.TestCase):
+    def test_the_folder_holds_nothing_but_python_files(self):
+        for name in files():
+            self.assertRegex(name, r"^[a-z_]+\.py$")
+        self.assertIn("__init__.py", files())
+
+    def test_characters_lines_and_sizes(self):
+        for name, text in files().items():
+            self.assertTrue(all(sign == "\n" or " " <= sign <= "~" for sign in text), name)
+            self.assertLessEqual(len(text.splitlines()), 399, name)
+            self.assertLessEqual(max(len(line) for line in text.splitlines()), 120, name)
+
+    def test_functions_have_at_most_forty_lines(self):
+        for name, text in files().items():
+            for node in ast.walk(ast.parse(text)):
+                if isinstance(node, ast.FunctionDef):
+                    self.assertLessEqual(node.end_lineno - node.lineno + 1, 40, (name, node.name))
+
+    def test_imports_name_the_package_or_the_few_allowed_modules(self):
+        for name, text in files().items():
+            for node in ast.walk(ast.parse(text)):
+                self.assertNotIsInstance(node, ast.Import, name)
+                if isinstance(node, ast.ImportFrom):
+                    self.assertTrue(node.module.startswith("treeserved.") or node.module in LIBRARY, name)
+                    self.assertEqual(node.level, 0)
+
+    def test_no_name_of_a_builtin_is_given_another_meaning(self):
+        for name, text in files().items():
+            for node in ast.walk(ast.parse(text)):
+                for word in bound(node):
+                    self.assertNotIn(word, BUILTINS, name)
+
+    def test_no_percent_sign_no_float_and_no_slash(self):
+        for name, text in files().items():
+            for node in ast.walk(ast.parse(text)):
+                self.assertNotIsInstance(node, ast.Div, name)
+                if isinstance(node, ast.Constant):
+                    self.assertNotIsInstance(node.value, float, name)
+                    self.assertFalse(isinstance(node.value, str) and chr(37) in node.value, name)
+
+
+class TestInterface(unittest.TestCase):
+    def test_functions_have_their_names_and_arguments_and_stand_in_their_file(self):
+        for module, wanted in FUNCTIONS.items():
+            for name, arguments in wanted.items():
+                function = getattr(module, name)
+                self.assertTrue(inspect.isfunction(function), name)
+                self.assertEqual(function.__module__, module.__name__)
+                self.assertEqual(list(inspect.signature(function).parameters), arguments)
+
+
+class TestReadme(unittest.TestCase):
+    def test_examples(self):
+        found = doctest.testfile(os.path.join(TOP, "README.md"), module_relative=False)
+        self.assertGreater(found.attempted, 0)
+        self.assertEqual(found.failed, 0)
+
+
+if __name__ == "__main__":
+    unittest.main()

@@ -1,0 +1,1 @@
+"""Treeserved: trees that serve their nodes, with a paper for each answer."""

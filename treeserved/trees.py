@@ -1,0 +1,126 @@
+"""Trees, as pairs of nodes and edges, and what lies between their nodes."""
+
+from treeserved.errors import ShapeError
+from treeserved.limits import GREAT, LETTERS, NODES
+
+LOWER = "abcdefghijklmnopqrstuvwxyz"
+DIGITS = "0123456789"
+
+
+def is_name(word):
+    """Tell whether a string is a name that a node may have."""
+    if not 1 <= len(word) <= LETTERS:
+        return False
+    return word[0] in LOWER and all([sign in LOWER or sign in DIGITS for sign in word])
+
+
+def tree(nodes, edges):
+    """Make a tree of a list of pairs (name, weight) and a list of triples (name, name, length)."""
+    _check_nodes(nodes)
+    _check_edges([name for name, _ in nodes], edges)
+    ordered = [(min(first, second), max(first, second), length) for first, second, length in edges]
+    return tuple(sorted([(name, weight) for name, weight in nodes])), tuple(sorted(ordered))
+
+
+def _check_nodes(nodes):
+    seen = {}
+    for place, (name, weight) in enumerate(nodes):
+        if not is_name(name):
+            raise ShapeError("wrong name", place)
+        if name in seen:
+            raise ShapeError("named twice", place)
+        if not 0 <= weight <= GREAT:
+            raise ShapeError("wrong weight", place)
+        seen[name] = True
+    if not 1 <= len(nodes) <= NODES:
+        raise ShapeError("wrong number of nodes", len(nodes))
+
+
+def _check_edges(names, edges):
+    # Two nodes have the same label just when the edges so far give a path between them.
+    label = {name: name for name in names}
+    for place, (first, second, length) in enumerate(edges):
+        if first not in label or second not in label:
+            raise ShapeError("unknown node", place)
+        if not 1 <= length <= GREAT:
+            raise ShapeError("wrong length", place)
+        kept, gone = label[first], label[second]
+        if kept == gone:
+            raise ShapeError("joined already", place)
+        label = {name: kept if label[name] == gone else label[name] for name in names}
+    if len(set(list(label.values()))) > 1:
+        raise ShapeError("not joined", len(edges))
+
+
+def names_of(some_tree):
+    """Return the list of the names of the nodes, ascending."""
+    return [name for name, _ in some_tree[0]]
+
+
+def weight_of(some_tree, name):
+    """Return the weight of a node."""
+    return dict(some_tree[0])[name]
+
+
+def neighbors(some_tree, name):
+    """Return the list of the pairs (neighbor, length of the edge to it) of a node, ascending."""
+    found = []
+    for first, second, length in some_tree[1]:
+        if first == name:
+            found.append((second, length))
+        elif second == name:
+            found.append((first, length))
+    return sorted(found)
+
+
+def distances_from(some_tree, start):
+    """Return a dict with the distance of each node from the start."""
+    far = {start: 0}
+    fresh = [start]
+    while fresh:
+        name = fresh.pop()
+        for other, length in neighbors(some_tree, name):
+            if other not in far:
+                far[other] = far[name] + length
+                fresh.append(other)
+    return far
+
+
+def path(some_tree, first, second):
+    """Return the list of the nodes on the way from the first node to the second one."""
+    gone = distances_from(some_tree, first)
+    left = distances_from(some_tree, second)
+    # Lengths are greater than 0: just the nodes on the path are no detour, and each is farther than those before.
+    found = [(gone[name], name) for name in gone if gone[name] + left[name] == gone[second]]
+    return [name for _, name in sorted(found)]
+
+
+def distance(some_tree, first, second):
+    """Return the sum of the lengths of the edges between two nodes."""
+    return distances_from(some_tree, first)[second]
+
+
+def meeting(some_tree, first, second, third):
+    """Return the only node that is on all three paths between two of the three nodes."""
+    to_third = path(some_tree, first, third)
+    past_first = path(some_tree, second, third)
+    return [name for name in path(some_tree, first, second) if name in to_third and name in past_first][0]
+
+
+def sides(some_tree, first, second):
+    """Return the lists of the nodes on the first side and on the second side of an edge."""
+    # Whoever is on the first side comes to the second name by way of the first one, which is farther.
+    near = distances_from(some_tree, first)
+    other = distances_from(some_tree, second)
+    names = names_of(some_tree)
+    return [name for name in names if near[name] < other[name]], [name for name in names if other[name] < near[name]]
+
+
+def is_group(some_tree, names):
+    """Tell whether a tuple of strings is a group: ascending different nodes with all that is between them."""
+    known = names_of(some_tree)
+    if not names or list(names) != sorted(set(names)) or not all([name in known for name in names]):
+        return False
+    # Without a ring, nodes hang together just when the edges among them are one fewer than they are.
+    inside = [edge for edge in some_tree[1] if edge[0] in names and edge[1] in names]
+    return len(inside) == len(names) - 1
