@@ -1,8 +1,14 @@
 """Trees for the tests, and slow answers to compare with, found by trying out everything."""
 
+from fractions import Fraction
+
 from treeserved.trees import tree
 
 NAMES = ["a", "b", "b2", "c10", "d", "e", "fghijklm", "g", "h1", "m", "x9", "z"]
+T = tree([("a", 1), ("b", 0), ("c", 2), ("d", 1)], [("b", "a", 3), ("b", "c", 4), ("d", "b", 2)])
+ONE = tree([("only", 9)], [])
+TWO = tree([("y", 1), ("x", 2)], [("y", "x", 999)])
+LONG = tree([(name, k) for k, name in enumerate("abcde")], [("c", "a", 1), ("a", "e", 2), ("e", "b", 4), ("b", "d", 8)])
 
 
 def made(parents):
@@ -67,3 +73,67 @@ def slow_distance(some_tree, first, second):
     table = links(some_tree)
     way = slow_path(some_tree, first, second)
     return sum(table[one][two] for one, two in zip(way, way[1:]))
+
+
+def spots(some_tree, parts):
+    """Places: all nodes, and on each edge the points that cut it into so many equal parts."""
+    found = [("node", name) for name, _ in some_tree[0]]
+    for first, second, length in some_tree[1]:
+        for k in range(1, parts):
+            found.append(("edge", first, second, told(Fraction(length * k, parts))))
+    return found
+
+
+def told(fraction):
+    """A fraction as the number that the program tells."""
+    return fraction.numerator, fraction.denominator
+
+
+def slow_far(some_tree, places):
+    """A dict from each of the places to the dict of its distances to all of them and to all nodes, by walking."""
+    table = {("node", name): {} for name, _ in some_tree[0]}
+    for first, second, length in some_tree[1]:
+        points = {place for place in places if place[:3] == ("edge", first, second)}
+        row = sorted((Fraction(*place[3]), place) for place in points)
+        row = [(Fraction(0), ("node", first))] + row + [(Fraction(length), ("node", second))]
+        for (here, one), (there, two) in zip(row, row[1:]):
+            table.setdefault(one, {})[two] = there - here
+            table.setdefault(two, {})[one] = there - here
+    return {place: walked(table, place) for place in places}
+
+
+def walked(table, start):
+    far = {start: Fraction(0)}
+    fresh = [start]
+    for place in fresh:
+        for other in table[place]:
+            if other not in far:
+                far[other] = far[place] + table[place][other]
+                fresh.append(other)
+    return far
+
+
+def groups_of(some_tree):
+    """All groups of a tree: the sets of nodes that hang together, grown neighbor by neighbor."""
+    table = links(some_tree)
+    found = {(name,) for name in table}
+    fresh = sorted(found)
+    while fresh:
+        group = fresh.pop()
+        for name in group:
+            for other in table[name]:
+                grown = tuple(sorted(set(group) | {other}))
+                if grown not in found:
+                    found.add(grown)
+                    fresh.append(grown)
+    return sorted(found, key=lambda group: (len(group), group))
+
+
+def families_of(some_tree, most):
+    """Families of 0 to most groups, dealt out of all groups of a tree in several steps; some have equal groups."""
+    groups = groups_of(some_tree)
+    found = [[]]
+    for count in range(1, most + 1):
+        for start, step in ((0, 1), (1, 3), (5, 7), (2, 11), (len(groups) // 3, 0), (len(groups) // 2, 5)):
+            found.append([groups[(start + step * k) % len(groups)] for k in range(count)])
+    return found

@@ -7,7 +7,7 @@ import inspect
 import os
 import unittest
 
-from treeserved import trees
+from treeserved import centers, groups, places, trees, treetext
 
 TOP = os.path.dirname(os.path.dirname(os.path.abspath(__file__)))
 PACKAGE = os.path.join(TOP, "treeserved")
@@ -25,6 +25,39 @@ FUNCTIONS = {
         "sides": ["some_tree", "first", "second"],
         "is_group": ["some_tree", "names"],
     },
+    treetext: {
+        "format_tree": ["some_tree"],
+        "read_tree": ["text"],
+    },
+    places: {
+        "place_on": ["some_tree", "first", "second", "offset"],
+        "between": ["some_tree", "place", "other"],
+        "reach": ["some_tree", "place"],
+        "load": ["some_tree", "place"],
+    },
+    centers: {
+        "farthest_pair": ["some_tree"],
+        "center": ["some_tree"],
+        "radius": ["some_tree"],
+        "shows_radius": ["some_tree", "pair", "least"],
+        "medians": ["some_tree"],
+        "branches": ["some_tree", "name"],
+        "is_median": ["some_tree", "name"],
+    },
+    groups: {
+        "hit": ["some_tree", "groups"],
+        "top_of": ["some_tree", "group"],
+        "are_hit": ["groups", "names"],
+        "are_apart": ["groups", "indices"],
+        "common": ["some_tree", "groups"],
+    },
+}
+# L17: names that are given to nothing.
+BARRED = {
+    "register", "mro", "elements", "open", "input", "law", "version_info", "with_traceback", "add_note", "attrgetter",
+    "builtins", "gc", "importlib", "methodcaller", "os", "sys", "typing", "typing_extensions", "enum", "Enum",
+    "IntEnum", "StrEnum", "Flag", "IntFlag", "Generic", "Protocol", "ABC", "ABCMeta", "namedtuple", "NamedTuple",
+    "TypedDict", "TYPE_CHECKING", "abstractmethod", "dataclass", "overload", "contextmanager",
 }
 
 
@@ -46,6 +79,8 @@ def bound(node):
         return [node.arg]
     if isinstance(node, ast.Name) and isinstance(node.ctx, ast.Store):
         return [node.id]
+    if isinstance(node, ast.ExceptHandler) and node.name:
+        return [node.name]
     return []
 
 
@@ -80,6 +115,30 @@ class TestForm(unittest.TestCase):
             for node in ast.walk(ast.parse(text)):
                 for word in bound(node):
                     self.assertNotIn(word, BUILTINS, name)
+
+    def test_names_are_plain_and_none_is_barred(self):
+        for name, text in files().items():
+            for node in ast.walk(ast.parse(text)):
+                for word in bound(node):
+                    self.assertNotIn(word, BARRED, name)
+                    self.assertRegex(word, r"^_?[A-Za-z][A-Za-z0-9_]*$|^__[a-z]+__$|^_$", name)
+
+    def test_a_name_of_an_import_is_given_no_other_meaning(self):
+        for name, text in files().items():
+            parts = list(ast.walk(ast.parse(text)))
+            imported = [one.name for node in parts if isinstance(node, ast.ImportFrom) for one in node.names]
+            self.assertEqual(len(imported), len(set(imported)), name)
+            self.assertEqual(set(imported) & {word for node in parts for word in bound(node)}, set(), name)
+
+    def test_no_two_files_import_from_each_other(self):
+        above = {}
+        for name, text in files().items():
+            above["treeserved." + name[:-3]] = {
+                node.module for node in ast.walk(ast.parse(text)) if isinstance(node, ast.ImportFrom)} - LIBRARY
+        while above:
+            free = [name for name in above if not above[name] & set(above)]
+            self.assertNotEqual(free, [], above)
+            above = {name: above[name] for name in above if name not in free}
 
     def test_no_percent_sign_no_float_and_no_slash(self):
         for name, text in files().items():

@@ -3,13 +3,8 @@
 import itertools
 import unittest
 
-from tests.samples import NAMES, links, made, scattered, slow_distance, slow_path, trees
+from tests.samples import LONG, NAMES, ONE, T, TWO, links, made, scattered, slow_distance, slow_path, trees
 from treeserved.trees import distance, is_group, meeting, names_of, neighbors, path, sides, tree, weight_of
-
-T = tree([("a", 1), ("b", 0), ("c", 2), ("d", 1)], [("b", "a", 3), ("b", "c", 4), ("d", "b", 2)])
-ONE = tree([("only", 9)], [])
-TWO = tree([("y", 1), ("x", 2)], [("y", "x", 999)])
-LONG = tree([(name, 0) for name in "abcde"], [("c", "a", 1), ("a", "e", 2), ("e", "b", 4), ("b", "d", 8)])
 
 
 class TestExample(unittest.TestCase):
