@@ -137,3 +137,9 @@ def families_of(some_tree, most):
         for start, step in ((0, 1), (1, 3), (5, 7), (2, 11), (len(groups) // 3, 0), (len(groups) // 2, 5)):
             found.append([groups[(start + step * k) % len(groups)] for k in range(count)])
     return found
+
+
+def slow_all(some_tree):
+    """A dict from each node to the dict of its distances to all nodes, by walking."""
+    table = links(some_tree)
+    return {name: {other: int(far) for other, far in walked(table, name).items()} for name in table}

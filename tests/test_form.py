@@ -7,7 +7,7 @@ import inspect
 import os
 import unittest
 
-from treeserved import centers, groups, places, trees, treetext
+from treeserved import alike, centers, groups, metrics, places, routes, stands, trees, treetext
 
 TOP = os.path.dirname(os.path.dirname(os.path.abspath(__file__)))
 PACKAGE = os.path.join(TOP, "treeserved")
@@ -50,6 +50,36 @@ FUNCTIONS = {
         "are_hit": ["groups", "names"],
         "are_apart": ["groups", "indices"],
         "common": ["some_tree", "groups"],
+    },
+    stands: {
+        "stands": ["some_tree", "far"],
+        "least_distance": ["some_tree", "many"],
+        "do_serve": ["some_tree", "names", "far"],
+        "are_too_far": ["some_tree", "names", "far"],
+        "served": ["some_tree", "names"],
+    },
+    alike: {
+        "renamed": ["some_tree", "names"],
+        "normal_form": ["some_tree"],
+        "renaming": ["some_tree", "other"],
+        "shows_alike": ["some_tree", "other", "names"],
+    },
+    metrics: {
+        "table": ["pairs"],
+        "table_of": ["some_tree", "names"],
+        "distance_in": ["some_table", "first", "second"],
+        "breaks_rule": ["some_table", "names"],
+        "four_places": ["some_table"],
+        "three_places": ["some_table"],
+        "grown": ["some_table"],
+    },
+    routes: {
+        "needed": ["some_tree", "start", "wanted"],
+        "walk_length": ["some_tree", "walk"],
+        "round_of": ["some_tree", "start", "wanted"],
+        "trip_of": ["some_tree", "start", "wanted"],
+        "round_reason": ["some_tree", "start", "wanted"],
+        "trip_reason": ["some_tree", "start", "wanted"],
     },
 }
 # L17: names that are given to nothing.

@@ -2,7 +2,7 @@
 
 from itertools import combinations
 
-from treeserved.trees import names_of, path
+from treeserved.trees import away_from, names_of
 
 
 def hit(some_tree, groups):
@@ -24,8 +24,12 @@ def top_of(some_tree, group):
 
 
 def _depths(some_tree):
-    names = names_of(some_tree)
-    return {name: len(path(some_tree, names[0], name)) - 1 for name in names}
+    root = names_of(some_tree)[0]
+    depths = {root: 0}
+    for name, ways in away_from(some_tree, root).items():
+        for other, _ in ways:
+            depths[other] = depths[name] + 1
+    return depths
 
 
 def _top(depths, group):

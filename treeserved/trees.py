@@ -16,13 +16,19 @@ def is_name(word):
 
 def tree(nodes, edges):
     """Make a tree of a list of pairs (name, weight) and a list of triples (name, name, length)."""
-    _check_nodes(nodes)
+    check_nodes(nodes)
     _check_edges([name for name, _ in nodes], edges)
-    ordered = [(min(first, second), max(first, second), length) for first, second, length in edges]
-    return tuple(sorted([(name, weight) for name, weight in nodes])), tuple(sorted(ordered))
+    return ordered(nodes, edges)
 
 
-def _check_nodes(nodes):
+def ordered(nodes, edges):
+    """Return the pair of nodes and edges as a tree has them, all ascending, whether they make a tree or not."""
+    turned = [(min(first, second), max(first, second), length) for first, second, length in edges]
+    return tuple(sorted([(name, weight) for name, weight in nodes])), tuple(sorted(turned))
+
+
+def check_nodes(nodes):
+    """Raise ShapeError with the first fault of the nodes of a tree, if there is one."""
     seen = {}
     for place, (name, weight) in enumerate(nodes):
         if not is_name(name):
@@ -73,16 +79,23 @@ def neighbors(some_tree, name):
     return sorted(found)
 
 
+def away_from(some_tree, start):
+    """Return a dict with the pairs (neighbor, length) of each node away from the start; all nodes follow their way."""
+    ways = {}
+    fresh = [(start, None)]
+    while fresh:
+        name, before = fresh.pop()
+        ways[name] = [(other, length) for other, length in neighbors(some_tree, name) if other != before]
+        fresh.extend([(other, name) for other, _ in ways[name]])
+    return ways
+
+
 def distances_from(some_tree, start):
     """Return a dict with the distance of each node from the start."""
     far = {start: 0}
-    fresh = [start]
-    while fresh:
-        name = fresh.pop()
-        for other, length in neighbors(some_tree, name):
-            if other not in far:
-                far[other] = far[name] + length
-                fresh.append(other)
+    for name, ways in away_from(some_tree, start).items():
+        for other, length in ways:
+            far[other] = far[name] + length
     return far
 
 
