@@ -58,6 +58,13 @@ class TestPlaceOn(Numbers):
             self.assertEqual(place_on(LONG, "c", "d", (offset, 1)), ("node", name))
             self.assertEqual(place_on(LONG, "d", "c", (15 - offset, 1)), ("node", name))
 
+    def test_offsets_beyond_the_ends_raise_no_error(self):
+        for some_tree, first, second in ((LONG, "c", "d"), (LONG, "d", "c"), (TWO, "y", "x"), (ONE, "only", "only")):
+            for offset in (1000, 10 ** 6, (4001, 2)):
+                self.assertEqual(place_on(some_tree, first, second, offset), ("node", second))
+            for offset in (-1, (-1, 2), -10 ** 6):
+                self.assertEqual(place_on(some_tree, first, second, offset), ("node", first))
+
     def test_points_by_integers_have_the_offset_from_the_lesser_name(self):
         self.assertEqual(place_on(LONG, "c", "d", 2), ("edge", "a", "e", (1, 1)))
         self.assertEqual(place_on(LONG, "c", "d", 4), ("edge", "b", "e", (3, 1)))

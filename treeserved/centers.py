@@ -1,7 +1,7 @@
 """Centers and medians of a tree, and the papers for them."""
 
 from treeserved.places import load, number, place_on
-from treeserved.trees import distance, distances_from, names_of, neighbors, sides, weight_of
+from treeserved.trees import are_nodes, distance, distances_from, names_of, neighbors, sides, weight_of, whole_weight
 
 
 def farthest_pair(some_tree):
@@ -33,10 +33,9 @@ def radius(some_tree):
 
 def shows_radius(some_tree, pair, least):
     """Tell whether a pair of strings is one of nodes that shows that no reach is less than a number."""
-    names = names_of(some_tree)
-    first, second = pair
-    if first not in names or second not in names:
+    if not are_nodes(some_tree, pair):
         return False
+    first, second = pair
     top, bottom = least
     return distance(some_tree, first, second) * bottom >= 2 * top
 
@@ -61,5 +60,5 @@ def _weight_beyond(some_tree, name, other):
 
 def is_median(some_tree, name):
     """Tell whether no branch of a node has more than half of the weight of the tree."""
-    whole = sum([weight for _, weight in some_tree[0]])
+    whole = whole_weight(some_tree)
     return all([2 * weight <= whole for _, weight in branches(some_tree, name)])

@@ -2,7 +2,7 @@
 
 from math import gcd
 
-from treeserved.trees import distance, distances_from, names_of, path
+from treeserved.trees import are_nodes, distance, distances_from, lengths_of, names_of, path
 
 
 def number(top, bottom):
@@ -15,6 +15,8 @@ def place_on(some_tree, first, second, offset):
     """Return the place that is offset, an integer or a number, away from first on the path to second."""
     top, bottom = (offset, 1) if isinstance(offset, int) else offset
     gone = distances_from(some_tree, first)
+    # Who goes farther than the second node, or less than not at all, stays at the end of the path.
+    top = max(0, min(top, gone[second] * bottom))
     way = path(some_tree, first, second)
     before = [name for name in way if gone[name] * bottom <= top][-1]
     behind = [name for name in way if gone[name] * bottom >= top][0]
@@ -22,6 +24,15 @@ def place_on(some_tree, first, second, offset):
         return "node", before
     lesser, greater = min(before, behind), max(before, behind)
     return "edge", lesser, greater, number(abs(top - gone[lesser] * bottom), bottom)
+
+
+def is_place(some_tree, place):
+    """Tell whether a place, with any strings as its nodes and any number as its offset, is one of the tree."""
+    if place[0] == "node":
+        return are_nodes(some_tree, place[1:])
+    _, first, second, (top, bottom) = place
+    length = lengths_of(some_tree).get((first, second), 0)
+    return 0 < top < length * bottom and number(top, bottom) == (top, bottom)
 
 
 def between(some_tree, place, other):

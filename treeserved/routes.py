@@ -1,12 +1,11 @@
 """Walks: the shortest round and the shortest trip through wanted nodes, and the reasons why none is shorter."""
 
-from treeserved.trees import away_from, distances_from, names_of, neighbors, path, sides
+from treeserved.trees import away_from, distances_from, lengths_of, names_of, neighbors, path, sides
 
 
 def needed(some_tree, start, wanted):
     """Return the list of the edges that part the start from some wanted node, ascending."""
-    edges = [(first, second) for first, second, _ in some_tree[1]]
-    return [edge for edge in edges if _wanted_beyond(some_tree, start, wanted, edge)]
+    return [edge for edge in lengths_of(some_tree) if _wanted_beyond(some_tree, start, wanted, edge)]
 
 
 def _wanted_beyond(some_tree, start, wanted, edge):

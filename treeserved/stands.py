@@ -1,7 +1,7 @@
 """Stands: as few nodes as serve a tree within a distance, and the witnesses that fewer do not."""
 
 from treeserved.groups import are_apart, are_hit, hit
-from treeserved.trees import distances_from, names_of
+from treeserved.trees import are_nodes, distances_from, names_of
 
 
 def stands(some_tree, far):
@@ -46,16 +46,14 @@ def _least(some_tree, many):
 
 def do_serve(some_tree, names, far):
     """Tell whether strings are nodes such that each node of the tree has one of them at most so far away."""
-    known = names_of(some_tree)
-    return all([name in known for name in names]) and are_hit(_near_groups(some_tree, far), names)
+    return are_nodes(some_tree, names) and are_hit(_near_groups(some_tree, far), names)
 
 
 def are_too_far(some_tree, names, far):
     """Tell whether strings are different nodes of which no two have a node at most so far away from both."""
-    known = names_of(some_tree)
-    if not all([name in known for name in names]):
+    if not are_nodes(some_tree, names):
         return False
-    return are_apart(_near_groups(some_tree, far), [known.index(name) for name in names])
+    return are_apart(_near_groups(some_tree, far), [names_of(some_tree).index(name) for name in names])
 
 
 def served(some_tree, names):

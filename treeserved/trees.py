@@ -68,6 +68,22 @@ def weight_of(some_tree, name):
     return dict(some_tree[0])[name]
 
 
+def are_nodes(some_tree, names):
+    """Tell whether all of some strings are names of nodes of a tree."""
+    known = names_of(some_tree)
+    return all([name in known for name in names])
+
+
+def whole_weight(some_tree):
+    """Return the sum of the weights of all nodes."""
+    return sum([weight for _, weight in some_tree[0]])
+
+
+def lengths_of(some_tree):
+    """Return a dict from each edge, as a pair of its names, the lesser one first, to its length; ascending."""
+    return {(first, second): length for first, second, length in some_tree[1]}
+
+
 def neighbors(some_tree, name):
     """Return the list of the pairs (neighbor, length of the edge to it) of a node, ascending."""
     found = []
@@ -131,9 +147,20 @@ def sides(some_tree, first, second):
 
 def is_group(some_tree, names):
     """Tell whether a tuple of strings is a group: ascending different nodes with all that is between them."""
-    known = names_of(some_tree)
-    if not names or list(names) != sorted(set(names)) or not all([name in known for name in names]):
+    if not names or list(names) != sorted(set(names)) or not are_nodes(some_tree, names):
         return False
     # Without a ring, nodes hang together just when the edges among them are one fewer than they are.
-    inside = [edge for edge in some_tree[1] if edge[0] in names and edge[1] in names]
+    inside = [first for first, second in lengths_of(some_tree) if first in names and second in names]
     return len(inside) == len(names) - 1
+
+
+def forest(nodes, edges):
+    """Return the list of the trees that nodes and edges without rings make, ascending by their first nodes."""
+    whole = ordered(nodes, edges)
+    # Nodes are in one tree just when the least node that each of them has a path to is the same.
+    least = {name: min(distances_from(whole, name)) for name in names_of(whole)}
+    found = []
+    for head in sorted(set(list(least.values()))):
+        inside = [(name, weight) for name, weight in nodes if least[name] == head]
+        found.append(ordered(inside, [edge for edge in edges if least[edge[0]] == head]))
+    return found
