@@ -195,6 +195,14 @@ class TestCenter(Claims):
             self.wrong(("center", some_tree, ("edge", "a", "b", offset), ("a", "b")))
         self.wrong(("center", T, ("edge", "b", "c", (2, 4)), ("a", "c")))
 
+    def test_nodes_told_as_points_of_their_edges(self):
+        # They are in the middle, but a point of an edge is no end of it.
+        for edge in ("am", "bm", "cm"):
+            self.wrong(("center", STAR, ("edge", *edge, (5, 1)), ("a", "b")))
+        some_tree = tree([(name, 1) for name in "abc"], [("a", "b", 5), ("a", "c", 5)])
+        self.right(("center", some_tree, ("node", "a"), ("b", "c")))
+        self.wrong(("center", some_tree, ("edge", "a", "b", (0, 1)), ("b", "c")))
+
     def test_another_tree(self):
         self.wrong(*swapped(self.CLAIM, 1, ONE, TWO, LONG, STAR))
 
@@ -415,6 +423,13 @@ class TestRound(Claims):
         self.right(claim)
         self.wrong(*swapped(claim, 4, ["b", "a", "b", "c"], ["a", "b", "a"], ["c", "b", "a"], ["b", "c", "b"]))
         self.wrong(*swapped(claim, 2, "a", "c", "q", ""))
+
+    def test_a_walk_that_is_shorter_since_it_is_no_round(self):
+        # A trip through b and c is as long as the reason says, which need not have all needed edges.
+        some_tree = tree([(name, 1) for name in "abc"], [("a", "b", 10), ("a", "c", 5)])
+        for walk in ("baca", "acab", "bab", "abaca"):
+            self.wrong(("round", some_tree, "a", ["b", "c"], list(walk), [(("a", "b"), "b")]))
+        self.right(("round", some_tree, "a", ["b"], list("aba"), [(("a", "b"), "b")]))
 
     def test_other_wanted_nodes(self):
         self.wrong(*swapped(self.CLAIM, 3, ["h"], ["g"], ["d", "g", "h"], [], ["h", "f"]))

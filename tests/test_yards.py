@@ -370,6 +370,18 @@ class TestAsking(Yards):
             self.assertIs(value in yard, False, value)
             self.assertIs(value in Yard(), False, value)
 
+    def test_membership_of_a_value_that_equals_all_or_fails(self):
+        class Same:
+            def __eq__(self, other):
+                return True
+
+        class Broken:
+            def __eq__(self, other):
+                raise ZeroDivisionError
+
+        for value in (Same(), Broken()):
+            self.assertIs(value in made(), False)
+
     def test_properties_have_no_setters(self):
         yard = made()
         for name in ("trees", "log"):

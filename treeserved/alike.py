@@ -48,21 +48,17 @@ def renaming(some_tree, other):
     # Nodes that are settled have marks instead of weights; the rest can follow as long as the trees are alike.
     left, right = some_tree, other
     for at, name in enumerate(names_of(some_tree)):
-        new = _first_match(left, right, name, at)
-        names[name] = new
-        left, right = _marked(left, name, at), _marked(right, new, at)
+        left = _marked(left, name, at)
+        wanted = normal_form(left)
+        # A name that is taken does not fit: it would lose its mark.
+        fits = [new for new in names_of(other) if normal_form(_marked(right, new, at)) == wanted]
+        names[name] = fits[0]
+        right = _marked(right, fits[0], at)
     return names
 
 
-def _first_match(left, right, name, at):
-    """Return the first node of the right tree that can be settled as the new name of a node of the left one."""
-    wanted = normal_form(_marked(left, name, at))
-    same = [new for new in names_of(right) if weight_of(right, new) == weight_of(left, name)]
-    return [new for new in same if normal_form(_marked(right, new, at)) == wanted][0]
-
-
 def _marked(some_tree, name, at):
-    """Return the tree with the mark that has this index, a number below 0, as the weight of a node."""
+    """Return the tree with a mark, a number below 0 that no other index gives, as the weight of a node."""
     nodes, edges = some_tree
     return tuple([(other, -1 - at if other == name else weight) for other, weight in nodes]), edges
 

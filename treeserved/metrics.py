@@ -92,12 +92,10 @@ def _hidden(rows):
 
 def _meeting_spot(rows, i, j, k):
     """Return the tuple of the distances of the meeting of three names, told by their indices, to all names."""
-    ways = [(i, rows[i][j] + rows[i][k] - rows[j][k]),
-            (j, rows[i][j] + rows[j][k] - rows[i][k]),
-            (k, rows[i][k] + rows[j][k] - rows[i][j])]
-    # To any name one leaves the meeting away from two of the three names, so that two of the differences are right,
-    # and no difference is too great.
-    return tuple([max([2 * row[at] - far for at, far in ways]) for row in rows])
+    to_i = rows[i][j] + rows[i][k] - rows[j][k]
+    to_j = rows[i][j] + rows[j][k] - rows[i][k]
+    # The way from one of the two names at least to any name goes through the meeting, and no way is shorter.
+    return tuple([max(2 * row[i] - to_i, 2 * row[j] - to_j) for row in rows])
 
 
 def _hidden_names(names, many):
